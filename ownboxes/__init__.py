@@ -1,0 +1,1 @@
+"""Ownboxes: people who seek their own names in closed boxes."""
