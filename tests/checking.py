@@ -1,6 +1,6 @@
-"""What several test files need: refusals of just one class, and all orders gone through."""
+"""What several test files need: refusals of just one class, all orders gone through, plans of every kind."""
 
-from itertools import permutations
+from itertools import permutations, product
 
 FAR_OFF = 10 ** 89
 
@@ -13,6 +13,12 @@ def refused(test, error, function, *things):
 
 def all_orders(people):
     return list(permutations(range(people)))
+
+
+def lot_order(lot, people):
+    names = list(range(people))
+    lot.shuffle(names)
+    return tuple(names)
 
 
 def walked(order, person, most):
@@ -31,16 +37,113 @@ def who_find(order, openings):
     return tuple(p for p in range(len(order)) if walked(order, p, openings[p])[1])
 
 
-def ring_lengths(order):
-    """The boxes of each ring, found without the program."""
+def rings_walked(order):
+    """The rings, found without the program."""
     left = set(range(len(order)))
-    lengths = []
+    rings = []
     while left:
+        ring = []
         box = min(left)
-        count = 0
         while box in left:
             left.discard(box)
-            count += 1
+            ring.append(box)
             box = order[box]
-        lengths.append(count)
-    return lengths
+        rings.append(tuple(ring))
+    return rings
+
+
+def ring_lengths(order):
+    return [len(ring) for ring in rings_walked(order)]
+
+
+def walked_down(tree, order, person):
+    """The boxes opened down a tree, and whether the own name was found, step by step."""
+    boxes = []
+    while tree is not None:
+        box, nexts = tree
+        boxes.append(box)
+        if order[box] == person:
+            return boxes, True
+        tree = nexts[order[box]]
+    return boxes, False
+
+
+def all_openings(people):
+    return list(product(range(people + 1), repeat=people))
+
+
+def lot_openings(lot, people):
+    return tuple(lot.randint(0, people) for person in range(people))
+
+
+def lot_tree(lot, people, left, cut, boxes, names):
+    if left == 0 or lot.random() < cut:
+        return None
+    box = lot.choice([box for box in range(people) if box not in boxes])
+    nexts = [None] * people
+    for name in range(people):
+        if name not in names:
+            nexts[name] = lot_tree(lot, people, left - 1, cut, boxes + [box], names + [name])
+    return (box, tuple(nexts))
+
+
+def lot_plan(lot, openings, cut):
+    """Some plan for these openings; with a cut of 0 it is full, the greater it is the more ways end early."""
+    return tuple(
+        lot_tree(lot, len(openings), number, cut, [], [person]) for person, number in enumerate(openings)
+    )
+
+
+def all_trees(people, left, boxes, names):
+    yield None
+    if left == 0:
+        return
+    for box in range(people):
+        if box not in boxes:
+            choices = [
+                [None] if name in names else list(all_trees(people, left - 1, boxes + [box], names + [name]))
+                for name in range(people)
+            ]
+            for nexts in product(*choices):
+                yield (box, nexts)
+
+
+def all_plans(openings):
+    people = len(openings)
+    return product(*[list(all_trees(people, number, [], [p])) for p, number in enumerate(openings)])
+
+
+def plans_of_one_and_two():
+    """All openings of 1 and 2 people, each with all plans for them."""
+    for openings in all_openings(1) + all_openings(2):
+        for plan in all_plans(openings):
+            yield openings, plan
+
+
+def ways_to_boxes(tree, way=()):
+    """For each box of a tree the names that lead down to it."""
+    if tree is None:
+        return []
+    ways = [way]
+    for name, coming in enumerate(tree[1]):
+        ways.extend(ways_to_boxes(coming, way + (name,)))
+    return ways
+
+
+def part_at(tree, way):
+    for name in way:
+        tree = tree[1][name]
+    return tree
+
+
+def with_part(tree, way, part):
+    """The tree with another part where the names of the way lead."""
+    if not way:
+        return part
+    nexts = list(tree[1])
+    nexts[way[0]] = with_part(nexts[way[0]], way[1:], part)
+    return (tree[0], tuple(nexts))
+
+
+def with_place(whole, place, part):
+    return whole[:place] + (part,) + whole[place + 1:]

@@ -129,6 +129,22 @@ class Language(unittest.TestCase):
                 self.assertRegex(bound, r"^[A-Za-z][A-Za-z0-9_]*$", name)
                 self.assertNotIn(bound, dir(builtins), name)
 
+    def test_no_parameter_or_local_is_called_like_a_class_or_an_import_of_its_file(self):
+        for name, tree in trees():
+            classes = {node.name for node in tree.body if isinstance(node, ast.ClassDef)}
+            taken = classes | {used for module, used in imported(tree)}
+            for node in ast.walk(tree):
+                if isinstance(node, ast.arg):
+                    self.assertNotIn(node.arg, taken, (name, node.lineno))
+                if isinstance(node, ast.Name) and isinstance(node.ctx, ast.Store):
+                    self.assertNotIn(node.id, taken, (name, node.lineno))
+
+    def test_is_stands_beside_none_true_and_false_alone(self):
+        for name, tree in trees():
+            for node in ast.walk(tree):
+                if isinstance(node, ast.Compare) and isinstance(node.ops[0], (ast.Is, ast.IsNot)):
+                    self.assertIn(ast.unparse(node.comparators[0]), ("None", "True", "False"), (name, node.lineno))
+
 
 if __name__ == "__main__":
     unittest.main()
