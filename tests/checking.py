@@ -1,14 +1,25 @@
-"""What several test files need: refusals of just one class, all orders gone through, plans of every kind."""
+"""What several test files need: refusals of just one class, all orders gone through, plans and texts of every kind."""
 
 from itertools import permutations, product
 
+from ownboxes.errors import BadText
+
 FAR_OFF = 10 ** 89
+# A number as texts have it, to be found in them.
+NUMBER = "(?:0|[1-9][0-9]{0,89})"
 
 
 def refused(test, error, function, *things):
     with test.assertRaises(ValueError) as caught:
         function(*things)
     test.assertIs(type(caught.exception), error, (function.__name__, things))
+
+
+def refused_at_row(test, row, function, text):
+    with test.assertRaises(ValueError) as caught:
+        function(text)
+    test.assertIs(type(caught.exception), BadText, (function.__name__, text))
+    test.assertEqual(caught.exception.row, row, (function.__name__, text))
 
 
 def all_orders(people):
@@ -56,6 +67,30 @@ def ring_lengths(order):
     return [len(ring) for ring in rings_walked(order)]
 
 
+def order_written(order):
+    """The text of an order, made without the program."""
+    return "".join("(" + " ".join(map(str, ring)) + ")" for ring in rings_walked(order))
+
+
+def edits(text, signs):
+    """The text with one sign left out, put in, or changed for another one, at each place."""
+    for place in range(len(text) + 1):
+        for sign in signs:
+            yield text[:place] + sign + text[place:]
+            yield text[:place] + sign + text[place + 1:]
+        yield text[:place] + text[place + 1:]
+
+
+def place_in_row(order):
+    """What the good orders are compared by."""
+    return [(len(ring), ring) for ring in rings_walked(order)]
+
+
+def good_row(people, k):
+    """The good orders, each at the place of its number."""
+    return sorted([order for order in all_orders(people) if max(ring_lengths(order)) <= k], key=place_in_row)
+
+
 def walked_down(tree, order, person):
     """The boxes opened down a tree, and whether the own name was found, step by step."""
     boxes = []
@@ -74,6 +109,17 @@ def all_openings(people):
 
 def lot_openings(lot, people):
     return tuple(lot.randint(0, people) for person in range(people))
+
+
+def no_openings_beside(people):
+    """What are no openings beside an order or a plan of so many people."""
+    yield ()
+    yield (1,) * (people - 1)
+    yield (1,) * (people + 1)
+    yield (1,) * 61
+    for wrong in (-1, people + 1, FAR_OFF, -FAR_OFF):
+        for place in range(people):
+            yield with_place((1,) * people, place, wrong)
 
 
 def lot_tree(lot, people, left, cut, boxes, names):

@@ -2,7 +2,7 @@ import unittest
 from itertools import product
 from random import Random
 
-from checking import FAR_OFF, all_orders, refused, walked, who_find
+from checking import FAR_OFF, all_orders, no_openings_beside, refused, walked, who_find
 from ownboxes.errors import BadOpenings, NoPerson
 from ownboxes.following import all_find, finders, finds, made_openings, opened, short_ring
 from ownboxes.orders import rings_of
@@ -21,17 +21,6 @@ def cases():
             lot.shuffle(names)
             yield tuple(names), tuple(lot.randint(0, people) for person in names)
             yield tuple(names), (turn * people // 59,) * people
-
-
-def bad_openings(people):
-    """For an order of so many boxes: what are no openings beside it."""
-    yield ()
-    yield (1,) * (people + 1)
-    if people > 1:
-        yield (1,) * (people - 1)
-    for wrong in (-1, people + 1, FAR_OFF, -FAR_OFF):
-        yield (wrong,) + (1,) * (people - 1)
-        yield (1,) * (people - 1) + (wrong,)
 
 
 class MadeOpenings(unittest.TestCase):
@@ -130,7 +119,7 @@ class Following(unittest.TestCase):
     def test_bad_openings_by_each(self):
         for people in (1, 2, 5, 60):
             order = tuple(range(people))
-            for openings in bad_openings(people):
+            for openings in no_openings_beside(people):
                 for function in (finders, all_find, short_ring):
                     refused(self, BadOpenings, function, order, openings)
                 for person in (0, people - 1, -1, people, FAR_OFF):

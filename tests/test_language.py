@@ -89,6 +89,15 @@ class Language(unittest.TestCase):
                     self.assertEqual(node.orelse, [], where)
                 self.assertNotIsInstance(node, ast.Div, where)
 
+    def test_texts_hold_no_per_cent_and_braces_plain_names_alone(self):
+        for name, tree in trees():
+            for node in ast.walk(tree):
+                if isinstance(node, ast.Constant) and isinstance(node.value, str):
+                    self.assertNotIn("%", node.value, (name, node.lineno))
+                if isinstance(node, ast.FormattedValue):
+                    self.assertIsInstance(node.value, ast.Name, (name, node.lineno))
+                    self.assertIsNone(node.format_spec, (name, node.lineno))
+
     def test_functions(self):
         for name, tree in trees():
             for node in ast.walk(tree):

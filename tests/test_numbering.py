@@ -1,14 +1,10 @@
 import unittest
 from random import Random
 
-from checking import FAR_OFF, all_orders, lot_order, refused, ring_lengths, rings_walked
+from checking import FAR_OFF, all_orders, good_row, lot_order, place_in_row, refused, ring_lengths, rings_walked
 from ownboxes.counting import many_good
 from ownboxes.errors import BadOpenings, NoNumber, TooMany
 from ownboxes.numbering import good_at, good_number
-
-
-def place_in_row(order):
-    return [(len(ring), ring) for ring in rings_walked(order)]
 
 
 def some_numbers(people, k):
@@ -22,7 +18,7 @@ class AllOrders(unittest.TestCase):
     def test_the_row_from_nought_on(self):
         for people in range(1, 7):
             for k in range(people + 2):
-                row = sorted([o for o in all_orders(people) if max(ring_lengths(o)) <= k], key=place_in_row)
+                row = good_row(people, k)
                 self.assertEqual(many_good(people, k), len(row))
                 self.assertEqual([good_at(people, k, number) for number in range(len(row))], row)
                 self.assertEqual([good_number(order, k) for order in row], list(range(len(row))))

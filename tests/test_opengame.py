@@ -2,8 +2,8 @@ import unittest
 from random import Random
 
 from checking import (
-    FAR_OFF, all_openings, all_orders, lot_openings, lot_order, lot_plan, plans_of_one_and_two, refused, walked_down,
-    who_find, with_place,
+    all_openings, all_orders, lot_openings, lot_order, lot_plan, no_openings_beside, plans_of_one_and_two, refused,
+    walked_down, who_find,
 )
 from ownboxes.counting import many_all
 from ownboxes.errors import BadOpenings, BadOrder
@@ -164,10 +164,7 @@ class Refusals(unittest.TestCase):
     def test_bad_openings_go_first(self):
         for people in range(1, 7):
             plan = following_plan((1,) * people)
-            wrong = [(), (1,) * (people - 1), (1,) * (people + 1), (1,) * 61]
-            for number in (-1, people + 1, FAR_OFF, -FAR_OFF):
-                wrong += [with_place((1,) * people, place, number) for place in range(people)]
-            for openings in wrong:
+            for openings in no_openings_beside(people):
                 for boxes in {1, people, people + 1, 60}:
                     for function in (turns, won, written, unwritten):
                         refused(self, BadOpenings, function, plan, openings, tuple(range(boxes)))

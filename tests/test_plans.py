@@ -3,8 +3,8 @@ from math import factorial
 from random import Random
 
 from checking import (
-    FAR_OFF, all_openings, all_orders, all_trees, lot_openings, lot_order, lot_plan, part_at, plans_of_one_and_two,
-    refused, walked, walked_down, ways_to_boxes, with_part, with_place,
+    FAR_OFF, all_openings, all_orders, all_trees, lot_openings, lot_order, lot_plan, no_openings_beside,
+    part_at, plans_of_one_and_two, refused, walked, walked_down, ways_to_boxes, with_part, with_place,
 )
 from ownboxes.errors import BadOpenings, BadOrder, BadPlan, NoPerson
 from ownboxes.plans import all_find_by, finders_by, finds_in, following_plan, is_full, made_plan, opened_by
@@ -35,15 +35,6 @@ def no_openings():
         for wrong in (-1, people + 1, FAR_OFF, -FAR_OFF):
             for place in range(people):
                 yield with_place((1,) * people, place, wrong)
-
-
-def no_openings_beside(people):
-    yield ()
-    yield (1,) * (people - 1)
-    yield (1,) * (people + 1)
-    for wrong in (-1, people + 1, FAR_OFF, -FAR_OFF):
-        for place in range(people):
-            yield with_place((1,) * people, place, wrong)
 
 
 def leaf(box, people):
